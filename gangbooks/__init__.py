@@ -1,0 +1,1 @@
+"""Gangbooks: a scheduler of machines that answers for all books of events."""
