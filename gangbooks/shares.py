@@ -21,6 +21,16 @@ def divisor_of(share, other):
     return divisor
 
 
+def greater(one, other):
+    """Return the greater one of two shares."""
+    return other if (other - one).sign > 0 else one
+
+
+def lesser(one, other):
+    """Return the lesser one of two shares."""
+    return other if (other - one).sign < 0 else one
+
+
 class Share:
     """A fraction in lowest terms with a positive bottom."""
 

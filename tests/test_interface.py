@@ -16,7 +16,17 @@ FUNCTIONS = {
         "takes_of": "(cluster, gang, span, counts)",
     },
     "packing": {"pack": "(takes, items, *, barred=(), shut=())"},
+    "usage": {
+        "used_by": "(cluster, gangs)",
+        "level": "(cluster, group, used)",
+        "owed": "(cluster, used, gang)",
+        "stopped": "(cluster, used, gang)",
+    },
+    "levels": {"fair": "(wants, amount)"},
+    "lots": {"full_lots": "(cluster)", "floors_hold": "(cluster)"},
     "policy": {"all_policies": "()"},
+    "picks": {"pick": "(cluster, policy, used, jobs)", "precedence": "(cluster, policy, used, jobs)"},
+    "evict": {"spare": "(takes, gang, span, running, barred=())"},
 }
 CLASSES = {
     "shares": {
@@ -39,6 +49,11 @@ CLASSES = {
     "takes": {"Takes": ("(cluster, rows)", "free users ends overfull __add__ __iter__")},
     "fitting": {"Shortage": ("(gang, start, end, rows)", "note")},
     "packing": {"Packing": ("(places)", "note"), "CaseTree": ("(node)", "note")},
+    "levels": {
+        "Wants": ("(cluster, resource)", "put __getitem__ __setitem__ __iter__"),
+        "Levels": ("(resource, amount, wanted, shares, rows)", "note __getitem__"),
+    },
+    "lots": {"FloorPlan": ("(rows)", "note"), "Crowded": ("(lot, node)", "note")},
     "policy": {"Policy": ("(order, place, evict, fill)", "text read __xor__ __eq__ __iter__")},
     "state": {
         "Job": ("(name, template, came=0, *, stage=0, done=0)", ""),
@@ -52,6 +67,7 @@ METHODS = {
     ("cluster", "Cluster", "group_index"): "(self, name)",
     ("cluster", "Cluster", "template_index"): "(self, name)",
     ("cluster", "Cluster", "stage_of"): "(self, gang)",
+    ("levels", "Wants", "put"): "(self, name, amount)",
     ("takes", "Takes", "free"): "(self, machine, span)",
     ("takes", "Takes", "users"): "(self, machine, span)",
     ("state", "State", "left"): "(self, name)",
