@@ -21,20 +21,28 @@ def bounds(takes, gang, span, barred=()):
     return [bound_of(takes, gang, span, barred, at) for at in range(len(takes.cluster.machines))]
 
 
-def bound_of(takes, gang, span, barred, at):
-    """Return the pair of bounds for the machine at this index."""
+def bar_of(takes, gang, span, barred, at):
+    """Return why the machine at this index takes no task of the gang, whatever is free, or None."""
     template = takes.cluster.templates[gang[0]]
     labels = takes.cluster.machines[at].labels
     if at in barred:
-        return 0, "barred"
+        return "barred"
     if not all([label in labels for label in template.needs]):
-        return 0, "needs"
+        return "needs"
     if any([label in labels for label in template.bars]):
-        return 0, "bars"
-    if any([user in template.foes for user in takes.users(at, span)]):
-        return 0, "never"
+        return "bars"
+    if template.foes and any([user in template.foes for user in takes.users(at, span)]):
+        return "never"
+    return None
+
+
+def bound_of(takes, gang, span, barred, at):
+    """Return the pair of bounds for the machine at this index."""
+    bar = bar_of(takes, gang, span, barred, at)
+    if bar is not None:
+        return 0, bar
     count, reason = room_of(takes.free(at, span), takes.cluster.stage_of(gang).amounts)
-    if template.apart and count > 1:
+    if takes.cluster.templates[gang[0]].apart and count > 1:
         return 1, "apart"
     return count, reason
 

@@ -49,7 +49,7 @@ def pick(cluster, policy, used, jobs):
     if policy.order == "rank":
         return most_ranked(cluster, jobs, list(range(len(jobs))))
     if policy.order == "short":
-        return min(range(len(jobs)), key=lambda at: hours_left(cluster, jobs[at]))
+        return min(list(range(len(jobs))), key=lambda at: hours_left(cluster, jobs[at]))
     return pick_by_share(cluster, used, jobs)
 
 

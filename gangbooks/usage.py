@@ -50,7 +50,7 @@ def owed(cluster, used, gang):
 def stopped(cluster, used, gang):
     """Return the first group, from the leaf up, whose limit stops the gang, and the resource, or None."""
     total = cluster.stage_of(gang).total
-    for group in reversed(path_of_gang(cluster, gang)):
+    for group in reversed(list(path_of_gang(cluster, gang))):
         limit = cluster.groups[group].limit
         if limit is not None and used[group] + total not in limit:
             above = [at for at, (number, most) in enumerate(zip(used[group] + total, limit)) if number > most]

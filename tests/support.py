@@ -2,6 +2,8 @@
 
 from gangbooks.cluster import Cluster
 from gangbooks.errors import GangError
+from gangbooks.policy import Policy
+from gangbooks.state import Job, State
 
 
 def refuse(test, kind, subject, call, *args, **named):
@@ -38,3 +40,22 @@ def cluster(amounts, templates, zones=None, labels=None):
         [(f"m{at + 1}", zones[at], labels[at], row) for at, row in enumerate(amounts)],
         [("g", "", 1, (0,) * many, None)],
         [("abcdefgh"[at], "g", 0, 0, stages, wishes) for at, (stages, wishes) in enumerate(templates)])
+
+
+def job(name, template=0, place=None, **others):
+    """A job with these attributes; without any it is loose and waits."""
+    made = Job(name, template)
+    made.place = place
+    for attribute, value in others.items():
+        setattr(made, attribute, value)
+    return made
+
+
+def state(made, words, jobs=(), hour=0, down=(), shut=(), windows=()):
+    """A state with the policy of these words."""
+    return State(made, Policy.read(words), hour, down, shut, windows, jobs)
+
+
+def job_notes(made):
+    """The notes of the jobs of a state by their names."""
+    return {one[0]: one for one in made.note()[6]}

@@ -27,6 +27,35 @@ FUNCTIONS = {
     "policy": {"all_policies": "()"},
     "picks": {"pick": "(cluster, policy, used, jobs)", "precedence": "(cluster, policy, used, jobs)"},
     "evict": {"spare": "(takes, gang, span, running, barred=())"},
+    "settle": {"settle": "(state)"},
+    "hours": {
+        "come": "(state, name, template)",
+        "drop": "(state, name)",
+        "early": "(state, name)",
+        "tick": "(state)",
+        "change": "(state, policy)",
+        "basic_step": "(state, event)",
+    },
+    "reserve": {
+        "reserve": "(state, name, template, hour)",
+        "earliest": "(state, template, hour)",
+        "in_the_way": "(state, template, hour)",
+    },
+    "windows": {"close": "(state, machine, start, hours)", "cancel": "(state, machine, end)"},
+    "failing": {
+        "fail": "(state, machine)",
+        "repair": "(state, machine)",
+        "shut": "(state, machine)",
+        "reopen": "(state, machine)",
+        "failing_step": "(state, event)",
+        "survives": "(state, failures)",
+    },
+    "moving": {
+        "allowed": "(state, name, counts, barred=())",
+        "moved": "(state, name, counts, barred=())",
+        "move_plan": "(state, machine)",
+        "drain": "(state, machine)",
+    },
 }
 CLASSES = {
     "shares": {
@@ -55,6 +84,14 @@ CLASSES = {
     },
     "lots": {"FloorPlan": ("(rows)", "note"), "Crowded": ("(lot, node)", "note")},
     "policy": {"Policy": ("(order, place, evict, fill)", "text read __xor__ __eq__ __iter__")},
+    "settle": {"Settlement": ("(rows, deeds, hold, after)", "note")},
+    "reserve": {
+        "Quote": ("(template, hour, places, refusals)", "note"),
+        "NoQuote": ("(template, refusals)", "note"),
+        "Blockers": ("(template, hour, rows)", "note"),
+    },
+    "failing": {"Survival": ("(rows)", "note"), "Frail": ("(machines, node)", "note")},
+    "moving": {"MovePlan": ("(machine, moves)", "note"), "Stuck": ("(machine, places)", "note")},
     "state": {
         "Job": ("(name, template, came=0, *, stage=0, done=0)", ""),
         "State": (None, "empty takes base left note text __getitem__ __contains__ __len__ __iter__"),
