@@ -18,7 +18,7 @@ def check_comer(state, name, template):
     if name in state:
         raise Taken(name)
     index = state.cluster.template_index(template)
-    if len(state) == MOST_JOBS:
+    if len(state) >= MOST_JOBS:
         raise Full(MOST_JOBS)
     return index
 
