@@ -62,6 +62,23 @@ class FormTest(unittest.TestCase):
             if isinstance(node, ast.arg) or (isinstance(node, ast.Name) and isinstance(node.ctx, ast.Store)):
                 self.assertFalse(hasattr(builtins, word), (path, node.lineno, word))
 
+    def test_views_are_iterated_at_once(self):
+        views = ("range", "zip", "enumerate", "reversed")
+        for path, node in nodes(ast.Call):
+            named = getattr(node.func, "id", None)
+            inner = [getattr(getattr(arg, "func", None), "id", None) for arg in node.args]
+            if named == "reversed":
+                self.assertIn(inner[0], ("list", "tuple", "sorted", "range"), (path, node.lineno))
+            if named in ("min", "max") and (len(inner) > 1 or "key" in [word.arg for word in node.keywords]):
+                self.assertFalse(set(inner) & set(views), (path, node.lineno))
+
+    def test_stars(self):
+        plain = (ast.Name, ast.Attribute, ast.List, ast.Tuple)
+        for path, node in nodes(ast.Starred):
+            self.assertIsInstance(node.value, plain, (path, node.lineno))
+        for path, node in nodes(ast.Dict):
+            self.assertNotIn(None, node.keys, (path, node.lineno))
+
     def test_values_and_expressions(self):
         self.assertEqual(nodes((ast.GeneratorExp, ast.Div, ast.Global)), [])
         for path, node in nodes(ast.Constant):
