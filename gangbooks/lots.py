@@ -51,7 +51,7 @@ def lots_within(cluster):
     lots = [()]
     for at in range(len(cluster.templates)):
         longer = []
-        for lot in lots:
+        for lot in list(lots):
             longer.extend([(*lot, count) for count in range(room_beside(cluster, lot, at) + 1)])
             # Each of these is, with counts of 0 behind it, a lot within the floors.
             if len(longer) > MOST_LOTS:

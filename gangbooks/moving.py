@@ -104,7 +104,7 @@ def move_plan(state, machine):
         moves = lists[places_of(now)]
         if not any([runs_on(job, at) for job in now]):
             return MovePlan(at, moves)
-        for job in now:
+        for job in list(now):
             if job.place is not None:
                 for counts in moves_of(now, job, (at,)):
                     after = with_place(now, job.name, counts)

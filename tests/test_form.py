@@ -19,6 +19,68 @@ def nodes(kind):
     return [(path, node) for path, tree in parsed().items() for node in ast.walk(tree) if isinstance(node, kind)]
 
 
+MODIFIERS = ("append", "clear", "extend", "insert", "pop", "remove", "reverse", "setdefault", "sort", "update", "add", "discard")
+
+
+def path_to(node):
+    """The dotted name of a variable, a field, or the thing that an item is taken from; None for other expressions."""
+    if isinstance(node, ast.Name):
+        return node.id
+    if isinstance(node, ast.Attribute):
+        inner = path_to(node.value)
+        return None if inner is None else f"{inner}.{node.attr}"
+    return path_to(node.value) if isinstance(node, (ast.Subscript, ast.Starred)) else None
+
+
+def paths_in(node):
+    """The paths that an expression may be, by its name, a field, an item or a choice."""
+    if isinstance(node, ast.IfExp):
+        return paths_in(node.body) | paths_in(node.orelse)
+    if isinstance(node, ast.BoolOp):
+        return set().union(*[paths_in(value) for value in node.values])
+    if isinstance(node, (ast.Tuple, ast.List)):
+        return set().union(*[paths_in(item) for item in node.elts])
+    return {path_to(node)} - {None}
+
+
+def walked_paths(node):
+    """The paths that a loop over this expression walks."""
+    if isinstance(node, ast.Call) and isinstance(node.func, ast.Name) and node.func.id in ("enumerate", "zip", "reversed"):
+        return set().union(*[walked_paths(arg) for arg in node.args])
+    if isinstance(node, ast.Call) and isinstance(node.func, ast.Attribute) and node.func.attr in ("items", "keys", "values"):
+        return paths_in(node.func.value)
+    return paths_in(node)
+
+
+def changed_paths(rows):
+    """The paths that are changed in these nodes."""
+    found = set()
+    for node in [inner for row in rows for inner in ast.walk(row)]:
+        if isinstance(node, ast.Call) and isinstance(node.func, ast.Attribute) and node.func.attr in MODIFIERS:
+            found |= paths_in(node.func.value)
+        elif isinstance(node, ast.Subscript) and not isinstance(node.ctx, ast.Load):
+            found |= paths_in(node.value)
+        elif isinstance(node, ast.AugAssign):
+            found |= paths_in(node.target)
+    return found
+
+
+def kin_of(function, path):
+    """The path with those that it may be the same as, or an item of, by the assignments of a function."""
+    pairs = []
+    for node in ast.walk(function):
+        if isinstance(node, ast.Assign):
+            for target in node.targets:
+                names = target.elts if isinstance(target, ast.Tuple) else [target]
+                pairs += [(paths_in(name), paths_in(node.value)) for name in names]
+    kin = {path}
+    for _ in pairs:
+        for targets, values in pairs:
+            if values and (targets | values) & kin:
+                kin |= targets | values
+    return kin
+
+
 def defined(tree):
     """The names that a module defines itself."""
     names = {node.name for node in tree.body if isinstance(node, (ast.FunctionDef, ast.ClassDef))}
@@ -71,6 +133,29 @@ class FormTest(unittest.TestCase):
                 self.assertIn(inner[0], ("list", "tuple", "sorted", "range"), (path, node.lineno))
             if named in ("min", "max") and (len(inner) > 1 or "key" in [word.arg for word in node.keywords]):
                 self.assertFalse(set(inner) & set(views), (path, node.lineno))
+
+    def test_what_is_walked_is_not_changed(self):
+        for path, function in nodes(ast.FunctionDef):
+            for node in ast.walk(function):
+                if isinstance(node, ast.For):
+                    changed = changed_paths(node.body)
+                    for walked in walked_paths(node.iter):
+                        self.assertFalse(kin_of(function, walked) & changed, (path, node.lineno))
+
+    def test_no_name_is_a_method_and_an_attribute(self):
+        methods = {inner.name for _, node in nodes(ast.ClassDef) for inner in node.body if isinstance(inner, ast.FunctionDef)}
+        for path, node in nodes(ast.Attribute):
+            if isinstance(node.ctx, ast.Store) and node.attr != "many":
+                self.assertNotIn(node.attr, methods, (path, node.lineno))
+
+    def test_no_variable_has_the_name_of_an_import_or_a_class(self):
+        for path, tree in parsed().items():
+            names = {alias.name for node in tree.body if isinstance(node, ast.ImportFrom) for alias in node.names}
+            names |= {node.name for node in tree.body if isinstance(node, ast.ClassDef)}
+            for node in ast.walk(tree):
+                word = node.arg if isinstance(node, ast.arg) else getattr(node, "id", None)
+                if isinstance(node, ast.arg) or isinstance(getattr(node, "ctx", None), ast.Store):
+                    self.assertNotIn(word, names, (path, node.lineno))
 
     def test_stars(self):
         plain = (ast.Name, ast.Attribute, ast.List, ast.Tuple)
