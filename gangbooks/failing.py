@@ -117,15 +117,27 @@ def sets_of(members, size):
     return sets
 
 
+def failing_sets(state, failures):
+    """Return the sets of at most so many machines that are up, the smaller ones first."""
+    up = [at for at in range(len(state.cluster.machines)) if at not in state.down]
+    sets = []
+    for size in range(1, min(failures, len(up)) + 1):
+        sets.extend(sets_of(up, size))
+    return sets
+
+
+def jobs_beside(state, machines):
+    """Return the firm jobs that have no task on these machines."""
+    return [job for job in state if job.firm and not any([runs_on(job, at) for at in machines])]
+
+
 def survives(state, failures):
     """Return a Survival if the plans can be kept whichever machines fail, at most so many, otherwise a Frail."""
-    up = [at for at in range(len(state.cluster.machines)) if at not in state.down]
     rows = []
-    for size in range(1, min(failures, len(up)) + 1):
-        for machines in sets_of(up, size):
-            jobs = [job for job in state if job.firm and not any([runs_on(job, at) for at in machines])]
-            packing = plan_anew(state, jobs, place_takes(state, jobs), (*state.down, *machines))
-            if not packing.holds():
-                return Frail(machines, packing.node)
-            rows.append((machines, packing.places))
+    for machines in failing_sets(state, failures):
+        jobs = jobs_beside(state, machines)
+        packing = plan_anew(state, jobs, place_takes(state, jobs), (*state.down, *machines))
+        if not packing.holds():
+            return Frail(machines, packing.node)
+        rows.append((machines, packing.places))
     return Survival(tuple(rows))

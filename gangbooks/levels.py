@@ -119,15 +119,37 @@ def level_of(amount, bands):
     return before + (here - before) * (amount - got).over(gets - got)
 
 
+def wanted_by(wants):
+    """Return the wanted amount of each group of the cluster, 0 for those that are no leaves."""
+    named = dict(wants)
+    return tuple([named.get(group.name, 0) for group in wants.cluster.groups])
+
+
+def divided_groups(cluster):
+    """Return the groups below which an amount is divided, with -1 for the top groups."""
+    return [-1] + [at for at, group in enumerate(cluster.groups) if not group.leaf]
+
+
+def rows_below(cluster, resource, needs, parent):
+    """Return the rows (want, claim, weight) of the groups directly below a group, or the top groups for -1."""
+    groups = [(needs[at], cluster.groups[at]) for at in children_of(cluster, parent)]
+    return [(need, min(group.floor[resource], need), group.weight) for need, group in groups]
+
+
+def mode_of(amount, rows):
+    """Return the mode of a division among rows (want, claim, weight), and the bands of what each row gets."""
+    if (amount - sum([want for want, _, _ in rows])).sign >= 0:
+        return "all", [(want, want, weight) for want, _, weight in rows]
+    if (amount - sum([claim for _, claim, _ in rows])).sign >= 0:
+        return "above", [(claim, want, weight) for want, claim, weight in rows]
+    return "below", [(0, claim, weight) for _, claim, weight in rows]
+
+
 def divided(amount, rows):
     """Return the mode, the level and the shares of a division among rows (want, claim, weight)."""
-    wants = [want for want, _, _ in rows]
-    if (amount - sum(wants)).sign >= 0:
-        return "all", None, [Share(want) for want in wants]
-    if (amount - sum([claim for _, claim, _ in rows])).sign >= 0:
-        mode, bands = "above", [(claim, want, weight) for want, claim, weight in rows]
-    else:
-        mode, bands = "below", [(0, claim, weight) for _, claim, weight in rows]
+    mode, bands = mode_of(amount, rows)
+    if mode == "all":
+        return mode, None, parts_at(Share(0), bands)
     level = level_of(amount, bands)
     return mode, level, parts_at(level, bands)
 
@@ -135,19 +157,14 @@ def divided(amount, rows):
 def fair(wants, amount):
     """Divide an amount, an integer or a Share, among the groups; return the Levels."""
     cluster, resource = wants.cluster, wants.resource
-    named = dict(wants)
-    wanted = tuple([named.get(group.name, 0) for group in cluster.groups])
+    wanted = wanted_by(wants)
     needs = needs_of(cluster, resource, wanted)
     shares = [Share(0)] * len(needs)
     rows = []
-    for parent in range(-1, len(needs)):
-        if parent == -1 or not cluster.groups[parent].leaf:
-            children = children_of(cluster, parent)
-            below = [(needs[at], min(cluster.groups[at].floor[resource], needs[at]), cluster.groups[at].weight)
-                     for at in children]
-            whole = as_share(amount) if parent == -1 else shares[parent]
-            mode, level, parts = divided(whole, below)
-            rows.append((parent, mode, level))
-            for at, part in zip(children, parts):
-                shares[at] = part
+    for parent in divided_groups(cluster):
+        whole = as_share(amount) if parent == -1 else shares[parent]
+        mode, level, parts = divided(whole, rows_below(cluster, resource, needs, parent))
+        rows.append((parent, mode, level))
+        for at, part in zip(children_of(cluster, parent), parts):
+            shares[at] = part
     return Levels(resource, as_share(amount), wanted, tuple(shares), tuple(rows))

@@ -72,12 +72,17 @@ def full_lots(cluster):
             yield lot
 
 
-def pack_lot(cluster, lot):
-    """Pack the gangs of a lot on the empty cluster."""
+def lot_items(lot):
+    """Return the items of the gangs of a lot."""
     items = []
     for at, count in enumerate(lot):
         items.extend([((at, 0), Span(0, 1), None)] * count)
-    return pack(Takes(cluster, []), items)
+    return items
+
+
+def pack_lot(cluster, lot):
+    """Pack the gangs of a lot on the empty cluster."""
+    return pack(Takes(cluster, []), lot_items(lot))
 
 
 def plan_rows(cluster):

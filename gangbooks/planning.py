@@ -22,11 +22,15 @@ def place_takes(state, jobs):
     return state.takes_with([planned(job, ()) for job in jobs])
 
 
+def plan_items(cluster, jobs):
+    """Return the items of the planned stages of the jobs, each with its present place."""
+    return [((job.template, triple[0]), span_of_plan(cluster, job, triple), triple[2])
+            for job in jobs for triple in job.plan]
+
+
 def plan_anew(state, jobs, takes, barred):
     """Pack the planned stages of the jobs beside the takes; each stage keeps its place if it can."""
-    items = [((job.template, triple[0]), span_of_plan(state.cluster, job, triple), triple[2])
-             for job in jobs for triple in job.plan]
-    return pack(takes, items, barred=barred, shut=state.shut)
+    return pack(takes, plan_items(state.cluster, jobs), barred=barred, shut=state.shut)
 
 
 def replanned(jobs, places):
