@@ -97,7 +97,7 @@ def find_ways(states, menu, template, step, most):
     """Return the ways, and for each coming of a job of the template the index of its state, its event and its way."""
     ways = Ways(most)
     begins = []
-    for at, state in enumerate(states):
+    for at, state in enumerate(list(states)):
         for event in comings(menu, state, template):
             after, _ = step(state, event)
             begins.append((at, event, ways.meet(after, event[1])))
