@@ -56,6 +56,35 @@ FUNCTIONS = {
         "move_plan": "(state, machine)",
         "drain": "(state, machine)",
     },
+    "events": {"event_line": "(event)", "read_event": "(line)", "full_step": "(state, event)"},
+    "tables": {"machine_lines": "(state)", "job_lines": "(state)"},
+    "shapes": {"shape": "(state)", "state_of": "(cluster, shape)"},
+    "menus": {"explore": "(state, menu, step, *, most=1000)"},
+    "promises": {"judge": "(state, menu, promise, step, *, most=1000)"},
+    "waits": {"longest_wait": "(state, menu, template, step, *, most=1000)"},
+    "pairs": {
+        "alike": "(state, policy, menu, step, *, most=1000)",
+        "never_later": "(state, policy, menu, step, *, most=1000)",
+        "harmless": "(state, event, menu, step, *, most=1000)",
+    },
+    "certificates": {"certificate_text": "(certificate)", "read_certificate": "(text)"},
+    "checks": {
+        "check_shortage": "(takes, shortage, barred=())",
+        "check_packing": "(takes, items, packing, *, barred=(), shut=())",
+        "check_tree": "(takes, items, tree, *, barred=(), shut=())",
+        "check_levels": "(wants, levels)",
+        "check_floors": "(cluster, certificate)",
+        "check_settlement": "(state, settlement)",
+        "check_quote": "(state, certificate)",
+        "check_blockers": "(state, blockers)",
+        "check_moves": "(state, certificate)",
+        "check_survival": "(state, failures, certificate)",
+    },
+    "bookchecks": {
+        "check_promise": "(state, menu, promise, step, verdict)",
+        "check_wait": "(state, menu, template, step, certificate)",
+        "check_pairs": "(state, other, menu, step, certificate)",
+    },
 }
 CLASSES = {
     "shares": {
@@ -96,6 +125,22 @@ CLASSES = {
         "Job": ("(name, template, came=0, *, stage=0, done=0)", ""),
         "State": (None, "empty takes base left note text __getitem__ __contains__ __len__ __iter__"),
     },
+    "books": {"Book": ("(events)", "read text first without put __getitem__ __add__ __eq__ __len__ __iter__")},
+    "keeper": {
+        "Keeper": ("(start, step)", "replay state entered enter extend_by undo undo_all strike insert_at as_of would walk "
+                   "trial perform __iadd__ __isub__ __len__ __iter__"),
+    },
+    "menus": {"Menu": ("(*templates, many=2, failures=0, early=False, drops=False)", "many set_many __call__")},
+    "promises": {
+        "Promise": (None, ""), "Begins": ("(name, hours)", ""), "Ends": ("(name, hours)", ""), "Stays": ("(name)", ""),
+        "Reserved": ("(name)", ""), "Floor": ("(group)", ""), "Verdict": (None, "lines"),
+        "Kept": ("(words, rows)", "note lines"), "Broken": ("(words, book)", "note lines"),
+    },
+    "waits": {
+        "WaitBound": ("(hours, name, book, shapes, rows)", "note"),
+        "WaitRing": ("(name, book, ring)", "note"),
+    },
+    "pairs": {"PairTable": ("(relation, rows)", "note"), "PairBook": ("(relation, book)", "note")},
 }
 METHODS = {
     ("shares", "Share", "over"): "(self, other)",
@@ -108,7 +153,28 @@ METHODS = {
     ("takes", "Takes", "free"): "(self, machine, span)",
     ("takes", "Takes", "users"): "(self, machine, span)",
     ("state", "State", "left"): "(self, name)",
+    ("books", "Book", "first"): "(self, n)",
+    ("books", "Book", "without"): "(self, at)",
+    ("books", "Book", "put"): "(self, at, event)",
+    ("keeper", "Keeper", "enter"): "(self, event)",
+    ("keeper", "Keeper", "extend_by"): "(self, events)",
+    ("keeper", "Keeper", "undo"): "(self)",
+    ("keeper", "Keeper", "undo_all"): "(self, n)",
+    ("keeper", "Keeper", "strike"): "(self, at)",
+    ("keeper", "Keeper", "insert_at"): "(self, at, event)",
+    ("keeper", "Keeper", "as_of"): "(self, n)",
+    ("keeper", "Keeper", "would"): "(self, *events)",
+    ("keeper", "Keeper", "walk"): "(self)",
+    ("keeper", "Keeper", "trial"): "(self)",
+    ("keeper", "Keeper", "perform"): "(self, orders)",
+    ("menus", "Menu", "set_many"): "(self, n)",
+    ("menus", "Menu", "__call__"): "(self, state)",
+    ("promises", "Verdict", "lines"): "(self)",
+    ("promises", "Kept", "lines"): "(self)",
+    ("promises", "Broken", "lines"): "(self)",
 }
+ERRORS = ("BadShare BadAmounts BadSpan BadNote BadRow BadLine BadName BadPolicy BadHour BadEvent BadMenu BadCertificate Unknown Taken Full "
+          "NotRunning NoChange NoWindow NoRoom Busy BadMove TooWide NoEvent NothingToUndo Refused").split()
 
 
 def named(module, name):
@@ -142,8 +208,21 @@ class InterfaceTest(unittest.TestCase):
         for module, name, method, kind in (
                 ("shares", "Share", "read", classmethod), ("policy", "Policy", "read", classmethod),
                 ("state", "State", "empty", classmethod), ("amounts", "Amounts", "of", staticmethod),
-                ("shares", "Share", "sign", property)):
+                ("shares", "Share", "sign", property), ("books", "Book", "read", classmethod), ("keeper", "Keeper", "replay", classmethod),
+                ("keeper", "Keeper", "state", property), ("keeper", "Keeper", "entered", property), ("menus", "Menu", "many", property)):
             self.assertIsInstance(vars(named(module, name))[method], kind)
+        self.assertEqual(str(inspect.signature(named("books", "Book").read)), "(text)")
+        self.assertEqual(str(inspect.signature(named("keeper", "Keeper").replay)), "(start, step, book)")
+        self.assertEqual(str(inspect.signature(named("shares", "Share").read)), "(text)")
+        self.assertEqual(str(inspect.signature(named("policy", "Policy").read)), "(text)")
+        self.assertEqual(str(inspect.signature(named("state", "State").empty)), "(cluster, policy)")
+
+    def test_errors(self):
+        self.assertEqual(named("errors", "GangError").__bases__, (ValueError,))
+        for name in ERRORS:
+            made = named("errors", name)
+            self.assertEqual((made.__module__, made.__bases__), ("gangbooks.errors", (named("errors", "GangError"),)))
+            self.assertEqual(made("what").subject, "what")
 
 
 if __name__ == "__main__":
