@@ -289,6 +289,19 @@ class LevelsTest(CheckTest):
         self.check(True, check_levels, wants, Levels(0, Share(6), (7,), (Share(6),), ((-1, "above", Share(6)),)))
         self.check(True, check_levels, wants, Levels(0, Share(4), (7,), (Share(4),), ((-1, "below", Share(4)),)))
 
+    def test_a_level_between_a_floor_and_a_want(self):
+        # The group h wants one core only, and the floor of g is 5: each level from 1 to 5 gives them 6 cores together.
+        made = cluster([(9,)], [(stages(1, 1), ())])
+        rows = made.entries()
+        wants = Wants(type(made)(rows[0], rows[1], [("g", "", 1, (5,), None), ("h", "", 1, (0,), None)], rows[3]), 0)
+        wants["g"], wants["h"] = 9, 1
+        levels = fair(wants, 6)
+        self.assertEqual(levels.note(), ("levels", 0, (6, 1), (9, 1), ((5, 1), (1, 1)), ((-1, "above", (1, 1)),)))
+        for level, right in ((Share(1), True), (Share(2), False), (Share(5), False), (Share(1, 2), False), (Share(0), False), (Share(6), False), (Share(-1), False)):
+            self.check(right, check_levels, wants, Levels(0, Share(6), (9, 1), (Share(5), Share(1)), ((-1, "above", level),)))
+        half = Levels(0, Share(11, 2), (9, 1), (Share(5), Share(1, 2)), ((-1, "above", Share(1, 2)),))
+        self.check(True, check_levels, wants, half)
+
     def test_others(self):
         made = cluster([(9,)], [(stages(1, 1), ())])
         self.check_others(Levels, check_levels, Wants(made, 0))
@@ -642,6 +655,9 @@ class MovesTest(CheckTest):
         stuck = move_plan(full, "m1")
         self.assertEqual((type(stuck), len(stuck.places)), (Stuck, 3))
         self.check(True, check_moves, full, stuck)
+        one, two, three = stuck.places
+        for places in ((two, one, three), (one, three, two), (three, two, one), (one, two, three, three), (one, two), (one, three), (two, three), (one,)):
+            self.check(False, check_moves, full, Stuck(0, places))
 
     def test_other_lists_of_moves(self):
         now = state(self.MADE, FREE, [job("a", 0, (1, 0, 0)), job("b", 0, (0, 1, 0)), job("c", 0)])
@@ -665,7 +681,12 @@ class MovesTest(CheckTest):
 
     def test_stuck(self):
         now = state(self.MADE, FREE, [job("a", 2, (1, 0, 0)), job("b", 2, (0, 1, 0)), job("c", 0)])
-        self.check(True, check_moves, now, Stuck(0, (((1, 0, 0), (0, 1, 0)),)))
+        right = ((1, 0, 0), (0, 1, 0))
+        self.check(True, check_moves, now, Stuck(0, (right,)))
+        # A tuple that is none of places makes it wrong, too, also beside the right ones.
+        for more in ((), right[:1], (*right, (0, 0, 1)), ((1, 0, 0), (0, 2, 0)), ((1, 0, 0), (0, 0, 0)), ((1, 0, 0), (0, 1)), ((1, 0, 0), (0, 1, 0, 0)), ((1, 0, 0), (0, 2, -1)),
+                     ((2, 0, 0), (0, 1, 0)), ((1, 0, 0), ()), ((), (0, 1, 0)), ((1, 1, -1), (0, 1, 0))):
+            self.check(False, check_moves, now, Stuck(0, tuple(sorted([right, more]))))
         for places in ((), ((),), (((1, 0, 0),),), (((1, 0, 0), (0, 1, 0), (0, 0, 1)),), (((0, 1, 0), (1, 0, 0)),), (((1, 0, 0), (0, 1, 0)),) * 2,
                        (((1, 0), (0, 1)),), (((1, 0, 0), (0, 2, -1)),), (((2, 0, 0), (0, 1, 0)),), (((1, 0, 0), (0, 0, 1)), ((1, 0, 0), (0, 1, 0)))):
             self.check(False, check_moves, now, Stuck(0, places))

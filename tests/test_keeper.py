@@ -375,6 +375,12 @@ class PerformTest(KeeperTestCase):
         self.assertIsNone(keeper.perform([]))
         self.check(keeper, [("come", "j", "a"), ("come", "k", "c"), TICK, ("drop", "j")])
 
+    def test_jobs_with_the_names_of_orders(self):
+        keeper = self.made([])
+        orders = [("come", "undo", "a"), ("come", "strike", "a"), ("come", "attempt", "a"), ("drop", "undo"), ("drop", "strike"), ("drop", "attempt")]
+        keeper.perform(orders)
+        self.check(keeper, orders)
+
     def test_errors_are_passed_on_as_they_are(self):
         keeper = self.made(EVENTS[:2])
         for orders, kind, subject in (

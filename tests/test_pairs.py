@@ -130,6 +130,38 @@ class PairTest(unittest.TestCase):
         # But they matter for the room of later jobs.
         self.fails("alike", start, "age loose never free", Menu("a", "wide"), (("come", "x1", "a"), ("come", "x2", "wide")))
 
+    def parted_by(self, deeds, others):
+        """Tell whether a step that gives these deeds in the left run and those in the right one parts the runs."""
+        left = empty("age first never free")
+
+        def step(state, event):
+            return state, list(deeds if state.policy == left.policy else others)
+
+        found = self.ask("alike", left, "rank first never free", Menu(), step)
+        self.assertEqual(found.holds() or found.book == (TICK,), True)
+        return not found.holds()
+
+    def test_the_words_that_count(self):
+        for word, more in (("out", (0,)), ("lost", (0,)), ("start", ((1,),)), ("stage", (1,)), ("end", (0, 0, 0)), ("drop", (0, 0, 0)), ("broken", ())):
+            deed = (word, "j", *more)
+            self.assertTrue(self.parted_by([deed], []), word)
+            self.assertTrue(self.parted_by([], [deed]), word)
+            self.assertTrue(self.parted_by([deed], [deed, deed]), word)
+            self.assertTrue(self.parted_by([deed], [(word, "k", *more)]), word)
+            self.assertFalse(self.parted_by([deed], [deed]), word)
+        for deed in (("plan", "j", ()), ("move", "j", (1,)), ("away", 0), ("back", 0), ("fail", 0), ("repair", 0), ("shut", 0), ("reopen", 0)):
+            self.assertFalse(self.parted_by([deed], []), deed)
+            self.assertFalse(self.parted_by([], [deed, deed]), deed)
+
+    def test_the_order_of_the_words_of_each_job(self):
+        out, start, other = ("out", "j", 2), ("start", "j", (1,)), ("start", "k", (1,))
+        self.assertTrue(self.parted_by([out, start], [start, out]))
+        self.assertTrue(self.parted_by([out, start], [start]))
+        self.assertTrue(self.parted_by([out, other], [("out", "k", 2), start]))
+        # Only each job's own words have an order, and neither places nor numbers count.
+        self.assertFalse(self.parted_by([out, other, start], [other, ("out", "j", 0), ("start", "j", (5,))]))
+        self.assertFalse(self.parted_by([("end", "j", 3, 1, 0)], [("end", "j", 4, 0, 0)]))
+
     def test_empty_books(self):
         start = after(empty("rank first never free"), ("come", "j1", "a"), ("come", "j2", "b"))
         self.fails("alike", start, "rank first any free", Menu("strange"), ())
