@@ -146,6 +146,18 @@ class PromiseTest(CheckTest):
         self.check(False, check_promise, start, menu, promise, basic_step, Kept(promise.words, ((shape(start), 1, 1),)))
         self.check(False, check_promise, start, menu, Begins("j2", 0), basic_step, Kept(("begins", "j2", 0), ()))
         self.check(False, check_promise, start, menu, Begins("j2", 0), basic_step, Kept(("begins", "j2", 0), ((shape(start), 1, 0),)))
+        # The job leaves with the next event, so that only the beginning breaks the promise.
+        short = after(empty(), ("come", "j1", "s"))
+        self.check(False, check_promise, short, menu, Ends("j1", 0), basic_step, Kept(("ends", "j1", 0), ((shape(short), 0, 0),)))
+        self.check(False, check_promise, short, menu, Ends("j1", 0), basic_step, Kept(("ends", "j1", 0), ()))
+
+    def test_rows_of_a_promise_that_is_not_kept(self):
+        # The rows go on behind the events that break the promise, as they would if these did not.
+        start, menu = after(empty("rank first any free"), ("come", "j1", "a")), Menu("b", "s")
+        self.assertFalse(judge(start, menu, Stays("j1"), basic_step).holds())
+        rows = judge(start, menu, Reserved("j1"), basic_step).rows
+        self.check(True, check_promise, start, menu, Reserved("j1"), basic_step, Kept(("reserved", "j1"), rows))
+        self.check(False, check_promise, start, menu, Stays("j1"), basic_step, Kept(("stays", "j1"), rows))
 
     def test_books_of_a_broken(self):
         start, promise = after(empty("rank first any free"), ("come", "j1", "a")), Stays("j1")
@@ -373,6 +385,7 @@ class WaitTest(CheckTest):
                 ("x1", (come(1, "big"),), (TICK,), True), ("x1", (TICK, come(1, "big")), (TICK, TICK), True), ("x1", (come(1, "big"),), (come(2, "big"), ("drop", "x2"), TICK), True),
                 ("x2", (come(1, "big"), come(2, "big")), (TICK,), True), ("x1", (come(1, "big"),), (), False), ("x1", (come(1, "big"),), (come(2, "big"), ("drop", "x2")), False),
                 ("x1", (come(1, "big"),), (come(2, "big"), TICK), False), ("x2", (come(1, "big"), come(2, "big")), (("drop", "x1"), TICK, come(1, "big")), False),
+                ("x1", (come(1, "a"), TICK, TICK, come(1, "big")), (TICK,), True), ("x1", (come(1, "a"), TICK, TICK, come(1, "big")), (TICK, TICK), True),
                 ("x1", (come(1, "big"), ("drop", "x1"), come(1, "big")), (TICK,), True), ("x1", (come(1, "big"),), (("drop", "x1"), come(1, "big"), TICK), False),
                 ("x1", (come(1, "a"),), (TICK,), False), ("x1", (come(1, "big"), ("drop", "x1"), come(1, "a")), (TICK,), False), ("x1", (), (TICK,), False), ("x1", (TICK,), (TICK,), False)):
             self.check(right, check_wait, start, menu, "big", basic_step, WaitRing(name, book, events))
@@ -386,6 +399,9 @@ class WaitTest(CheckTest):
         ring = longest_wait(empty(), Menu("big", many=1), "big", basic_step)
         self.check(False, check_wait, empty(), Menu("b"), "a", basic_step, bound)
         self.check(False, check_wait, empty(), Menu(), "big", basic_step, ring)
+        # Without the template in the menu no job of it can come, but the question does not exist.
+        self.check(False, check_wait, empty(), Menu(), "a", basic_step, WaitBound(0, None, (), (shape(empty()),), ()))
+        self.check(False, check_wait, empty(), Menu("a", many=1), "b", basic_step, WaitBound(0, None, (), longest_wait(empty(), Menu("a", many=1), "a", basic_step).shapes, ()))
         self.check(False, check_wait, empty(), Menu("strange", "a"), "a", basic_step, bound)
         self.check(False, check_wait, empty(), Menu("strange"), "strange", basic_step, WaitBound(0, None, (), (shape(empty()),), ()))
         self.check(False, check_wait, empty(), Menu("strange"), "strange", basic_step, WaitRing("x1", (come(1, "strange"),), (TICK,)))
