@@ -21,7 +21,7 @@ from tests.alter import STRANGE, altered_certificates
 from tests.test_pairs import rows_by_hand
 from tests.test_promises import open_rows
 from tests.test_waits import ways_by_hand
-from tests.worlds import CALM, POLICIES, ROUGH, perform, random_book, random_cluster
+from tests.worlds import CALM, POLICIES, ROUGH, last_state, perform, random_cluster
 
 TICK = ("tick",)
 ONE = read_cluster(
@@ -217,7 +217,7 @@ class PromiseTest(CheckTest):
         dice = random.Random(1)
         counts = {True: 0, False: 0}
         while min(counts.values()) < 25:
-            start = [new for _, _, new, _ in random_book(dice, 8, ROUGH)][-1]
+            start = last_state(dice, 8, ROUGH)
             names = [job.name for job in start]
             menu = Menu(*[one.name for one in start.cluster.templates][:dice.randrange(3)], many=min(max(1, len(start) + dice.randrange(2)), 12),
                         failures=dice.choice([0, 0, 1]), early=dice.random() < 0.4, drops=dice.random() < 0.4)
@@ -573,7 +573,7 @@ class PairsTest(CheckTest):
         dice = random.Random(3)
         counts = {True: 0, False: 0}
         while min(counts.values()) < 15:
-            start = [new for _, _, new, _ in random_book(dice, 6, CALM)][-1]
+            start = last_state(dice, 6, CALM)
             names = [one.name for one in start.cluster.templates]
             menu = Menu(*dice.sample(names, dice.randrange(1, 3)), many=min(max(1, len(start) + dice.randrange(2)), 12), early=dice.random() < 0.3, drops=dice.random() < 0.3)
             other = dice.choice([dice.choice(POLICIES), dice.choice(POLICIES), ("come", "new", names[0]), TICK])

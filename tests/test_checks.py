@@ -23,7 +23,7 @@ from gangbooks.takes import Takes
 from tests.alter import STRANGE, altered_certificates
 from tests.support import cluster, job, state
 from tests.test_packing import item, search, stages
-from tests.worlds import CALM, POLICIES, ROUGH, random_book, random_cluster
+from tests.worlds import CALM, POLICIES, ROUGH, last_state, random_book, random_cluster
 
 FREE = "age first never free"
 HOUR = Span(0, 1)
@@ -535,7 +535,7 @@ class QuoteTest(CheckTest):
         dice = random.Random(6)
         counts = {True: 0, False: 0}
         while min(counts.values()) < 25:
-            now = [new for _, _, new, _ in random_book(dice, 8, ROUGH)][-1]
+            now = last_state(dice, 8, ROUGH)
             found = earliest(now, dice.choice(now.cluster.templates).name, now.hour + dice.randrange(3))
             counts[found.holds()] += 1
             self.check(True, check_quote, now, found)
@@ -590,7 +590,7 @@ class BlockersTest(CheckTest):
         dice = random.Random(7)
         tried = 0
         while tried < 25:
-            now = [new for _, _, new, _ in random_book(dice, 9, CALM)][-1]
+            now = last_state(dice, 9, CALM)
             found = in_the_way(now, dice.choice(now.cluster.templates).name, now.hour + dice.randrange(5))
             if isinstance(found, Blockers):
                 tried += 1 if found.rows else 0
@@ -717,7 +717,7 @@ class MovesTest(CheckTest):
         dice = random.Random(8)
         counts = {True: 0, False: 0}
         while min(counts.values()) < 20:
-            now = [new for _, _, new, _ in random_book(dice, 9, ROUGH)][-1]
+            now = last_state(dice, 9, ROUGH)
             try:
                 found = move_plan(now, dice.choice(now.cluster.machines).name)
             except TooWide:
@@ -820,7 +820,7 @@ class SurvivalTest(CheckTest):
         dice = random.Random(9)
         counts = {True: 0, False: 0}
         while min(counts.values()) < 20:
-            now = [new for _, _, new, _ in random_book(dice, 9, CALM + ("reserve",) * 6 + ("fail",))][-1]
+            now = last_state(dice, 9, CALM + ("reserve",) * 6 + ("fail",))
             failures = dice.randrange(3)
             try:
                 found = survives(now, failures)

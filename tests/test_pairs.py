@@ -16,7 +16,7 @@ from gangbooks.shapes import shape
 from gangbooks.state import State
 from tests import slow
 from tests.support import refuse
-from tests.worlds import CALM, POLICIES, perform, random_book
+from tests.worlds import CALM, POLICIES, last_state, perform
 
 TICK = ("tick",)
 ONE = read_cluster(
@@ -276,7 +276,7 @@ class PairTest(unittest.TestCase):
         dice = random.Random(72)
         answers = {}
         while min(answers.get((relation, holds), 0) for relation in ("alike", "never-later", "harmless") for holds in (True, False)) < 5:
-            start = [new for _, _, new, _ in random_book(dice, 6, CALM)][-1]
+            start = last_state(dice, 6, CALM)
             names = [one.name for one in start.cluster.templates]
             menu = Menu(*dice.sample(names, dice.randrange(1, 3)), many=min(max(1, len(start) + dice.randrange(2)), 12),
                         failures=dice.choice([0, 0, 0, 1]), early=dice.random() < 0.3, drops=dice.random() < 0.3)

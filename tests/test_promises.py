@@ -15,7 +15,7 @@ from gangbooks.shapes import shape
 from gangbooks.state import State
 from tests import slow
 from tests.support import refuse
-from tests.worlds import ROUGH, perform, random_book
+from tests.worlds import ROUGH, last_state, perform
 
 TICK = ("tick",)
 ONE = read_cluster(
@@ -279,7 +279,7 @@ class JudgeTest(unittest.TestCase):
         dice = random.Random(70)
         answers = {}
         while min(answers.get((word, holds), 0) for word in ("begins", "ends", "stays", "floor") for holds in (True, False)) < 3:
-            start = [new for _, _, new, _ in random_book(dice, 8, ROUGH)][-1]
+            start = last_state(dice, 8, ROUGH)
             names = [job.name for job in start] or ["none"]
             menu = Menu(*[one.name for one in start.cluster.templates][:dice.randrange(3)], many=min(len(start) + dice.randrange(2) or 1, 12),
                         failures=dice.choice([0, 0, 1]), early=dice.random() < 0.4, drops=dice.random() < 0.4)

@@ -24,7 +24,7 @@ from gangbooks.state import State
 from gangbooks.takes import Takes
 from gangbooks.usage import owed, used_by
 from gangbooks.waits import longest_wait
-from tests.worlds import CALM, POLICIES, ROUGH, random_book, random_cluster, random_event
+from tests.worlds import CALM, POLICIES, ROUGH, last_state, random_book, random_cluster, random_event
 
 TICK = ("tick",)
 # Two groups with floors and a limit, a gang that needs both machines, stages, checkpoints and foes.
@@ -88,9 +88,12 @@ class SettledTest(unittest.TestCase):
         return found
 
     def check_hold(self, now, settlement):
-        self.assertTrue(settlement.hold is None or (now.policy.fill == "hold" and now.policy.evict != "any"))
+        """Check that the job with a hold gets the same one in a second settling; return whether there is one."""
+        if settlement.hold is None:
+            return False
+        self.assertEqual((now.policy.fill, now.policy.evict in ("never", "owed")), ("hold", True))
         self.assertEqual(settle(settlement.after).hold, settlement.hold)
-        return settlement.hold is not None
+        return True
 
     def test_all_books_of_menus_on_a_small_cluster(self):
         for at, policy in enumerate(all_policies()):
@@ -184,7 +187,7 @@ class FailuresTest(unittest.TestCase):
         counts = {}
         words = CALM + ("reserve",) * 8 + ("fail",)
         while min(counts.get((failures, holds), 0) for failures in (1, 2) for holds in (True, False)) < 15:
-            now = [new for _, _, new, _ in random_book(dice, 10, words, wide=True)][-1]
+            now = last_state(dice, 10, words, wide=True)
             failures = dice.choice([1, 2])
             uses_shut = any(counts[at] for job in now for _, _, counts in job.plan for at in now.shut)
             if not any(job.plan for job in now) or (failures > 1 and uses_shut):
@@ -300,7 +303,7 @@ class AlikeTest(unittest.TestCase):
         dice = random.Random(74)
         tried = promised = 0
         while tried < 40:
-            now = [new for _, _, new, _ in random_book(dice, 5, CALM)][-1]
+            now = last_state(dice, 5, CALM)
             policy = dice.choice(POLICIES)
             menu = Menu(*[one.name for one in now.cluster.templates][:dice.randrange(1, 3)], many=max(1, min(12, len(now) + dice.randrange(2))),
                         failures=dice.choice([0, 0, 1]), early=dice.random() < 0.3, drops=dice.random() < 0.3)

@@ -85,3 +85,11 @@ def random_book(dice, many, words, made=None, wide=False):
             continue
         yield state, event, after, deeds
         state = after
+
+
+def last_state(dice, many, words, wide=False):
+    """The state behind a random book that has at least one event."""
+    states = []
+    while not states:
+        states = [after for _, _, after, _ in random_book(dice, many, words, wide=wide)]
+    return states[-1]
