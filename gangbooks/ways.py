@@ -46,7 +46,7 @@ class Ways:
     def go_on(self, at, menu, step):
         """Perform the events behind a way."""
         state, name = self.search.things[at]
-        for place, event in enumerate(waiting_events(menu, state, name)):
+        for place, event in enumerate(list(waiting_events(menu, state, name))):
             after, _ = step(state, event)
             behind = self.meet(after, name)
             if event == TICK:
@@ -98,7 +98,7 @@ def find_ways(states, menu, template, step, most):
     ways = Ways(most)
     begins = []
     for at, state in enumerate(list(states)):
-        for event in comings(menu, state, template):
+        for event in list(comings(menu, state, template)):
             after, _ = step(state, event)
             begins.append((at, event, ways.meet(after, event[1])))
     tried = 0
